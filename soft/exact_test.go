@@ -21,6 +21,8 @@ func known(x *big.Float) exact {
 	return exact{x.Sign() < 0, x.Sign() == 0, func(v *big.Float) int { return v.Cmp(d) }}
 }
 
+func half(v *big.Float) *big.Float { return empty().SetMantExp(v, -1) }
+
 func empty() *big.Float { return new(big.Float).SetPrec(precision) }
 
 // exactOf goes by the meaning of the operations: a quotient stands to v as the dividend to v times the divisor.
@@ -51,9 +53,7 @@ func exactOf(name string, size int, args [3]uint64) exact {
 
 // farther tells whether what lies between two neighbours is rounded to the one farther from 0.
 func farther(rm int, minus, nearOdd bool, near, next *big.Float, x exact) bool {
-	middle := empty().Add(near, next)
-	middle.Quo(middle, exactly(2))
-	to := x.held(middle)
+	to := x.held(half(empty().Add(near, next)))
 	switch rm {
 	case 0:
 		return to < 0 || to == 0 && nearOdd
@@ -67,14 +67,17 @@ func farther(rm int, minus, nearOdd bool, near, next *big.Float, x exact) bool {
 	return false
 }
 
-// rounded is the float of what is not 0, found among all floats by halving.
-func rounded(size, rm int, x exact) (uint64, int) {
+// nearest is the greatest float whose distance from 0 is not above that of x, found among all floats by halving; the infinity, if x lies behind all that could be finite.
+func nearest(size int, x exact) uint64 {
+	return uint64(sort.Search(int(endOf(size)), func(i int) bool { return x.held(valueOf(size, uint64(i)+1)) > 0 }))
+}
+
+// rounded is the float of what is not 0, near being its nearest.
+func rounded(size, rm int, x exact, near uint64) (uint64, int) {
 	end, sign := endOf(size), uint64(0)
 	if x.minus {
 		sign = signOf(size)
 	}
-	i := sort.Search(int(end), func(i int) bool { return x.held(valueOf(size, uint64(i)+1)) > 0 })
-	near := uint64(i) // the greatest that is not above; end itself, if that is not
 	if near < end {
 		v := valueOf(size, near)
 		if x.held(v) == 0 {
@@ -82,12 +85,10 @@ func rounded(size, rm int, x exact) (uint64, int) {
 		}
 		if farther(rm, x.minus, near&1 != 0, v, valueOf(size, near+1), x) {
 			near++
-		} else if near == end-1 {
-			return sign | near, inexact
 		}
-	}
-	if near < end {
-		return sign | near, inexact | small(size, rm, x)
+		if near < end {
+			return sign | near, inexact | small(size, rm, x)
+		}
 	}
 	if rm == 1 || rm == 2 && !x.minus || rm == 3 && x.minus {
 		return sign | end - 1, inexact | overflow
@@ -102,7 +103,7 @@ func small(size, rm int, x exact) int {
 		return 0
 	}
 	// The one ahead of the least normal one has as many bits as that one, all of them 1.
-	ahead := empty().Quo(valueOf(size, 2*leastOf(size)-1), exactly(2))
+	ahead := half(valueOf(size, 2*leastOf(size)-1))
 	if x.held(ahead) < 0 && farther(rm, x.minus, true, ahead, least, x) {
 		return 0
 	}
@@ -193,24 +194,36 @@ func ofNought(name string, size, rm int, a [3]uint64) uint64 {
 	return 0
 }
 
-// answer is what the chapter says, P1.1.
-func answer(o operation, size, rm int, a [3]uint64) (uint64, int) {
+// answers are what the chapter says, P1.1, a mode each.
+func answers(o operation, size int, a [3]uint64) (want [5]uint64, flags [5]int) {
 	if isInvalid(o.name, size, a, o.args) {
-		return quietOf(size), invalid
+		return inAll(quietOf(size), invalid)
 	}
 	for _, x := range a[:o.args] {
 		if isNone(size, x) {
-			return quietOf(size), 0
+			return inAll(quietOf(size), 0)
 		}
 	}
 	if r, f, ok := endless(o.name, size, a); ok {
-		return r, f
+		return inAll(r, f)
 	}
 	x := exactOf(o.name, size, a)
-	if x.nought {
-		return ofNought(o.name, size, rm, a), 0
+	near := uint64(0)
+	if !x.nought {
+		near = nearest(size, x)
 	}
-	return rounded(size, rm, x)
+	for rm := range 5 {
+		if x.nought {
+			want[rm] = ofNought(o.name, size, rm, a)
+		} else {
+			want[rm], flags[rm] = rounded(size, rm, x, near)
+		}
+	}
+	return want, flags
+}
+
+func inAll(r uint64, f int) ([5]uint64, [5]int) {
+	return [5]uint64{r, r, r, r, r}, [5]int{f, f, f, f, f}
 }
 
 // compare holds an operation against what the chapter says, in all modes.
@@ -221,10 +234,10 @@ func compare(t *testing.T, o operation, size int, rows [][3]uint64) {
 	for w := range workers {
 		group.Go(func() {
 			for i := w; i < len(rows) && !t.Failed(); i += workers {
+				want, flags := answers(o, size, rows[i])
 				for rm := range 5 {
-					want, flags := answer(o, size, rm, rows[i])
-					if r, f := o.do(size, rm, rows[i]); r != want || f != flags {
-						t.Errorf("%s %d %d %x: %x, %#x; want %x, %#x", o.name, size, rm, rows[i], r, f, want, flags)
+					if r, f := o.do(size, rm, rows[i]); r != want[rm] || f != flags[rm] {
+						t.Errorf("%s %d %d %x: %x, %#x; want %x, %#x", o.name, size, rm, rows[i], r, f, want[rm], flags[rm])
 					}
 				}
 			}
